@@ -1,0 +1,1 @@
+"""Idealtwin: a switch with slow sides that imitates the ideal one."""

@@ -1,0 +1,96 @@
+"""The checks of parameters: each one raises the error that the document names."""
+
+from idealtwin.errors import InvalidCells, InvalidCrossings, InvalidNumber, InvalidPort
+from idealtwin.errors import InvalidRow, InvalidSize, InvalidSlot
+
+GREATEST_SIZE = 8
+MOST_CELLS = 60
+LAST_COMING = 10 ** 30 - 1
+LAST_SLOT = 10 ** 31 - 1
+
+
+def is_integer(value):
+    """Return whether any value is an integer; a bool is none."""
+    return isinstance(value, int) and not isinstance(value, bool)
+
+
+def is_between(value, first, last):
+    """Return whether any value is an integer from first to last."""
+    return is_integer(value) and first <= value <= last
+
+
+def is_cell(size, value):
+    """Return whether any value is a cell of a switch of this size."""
+    if not isinstance(value, tuple) or len(value) != 3:
+        return False
+    slot, entry, outlet = value
+    if not is_between(slot, 0, LAST_COMING):
+        return False
+    return is_between(entry, 0, size - 1) and is_between(outlet, 0, size - 1)
+
+
+def is_slot_of(cell, value):
+    """Return whether any value is a slot in which this cell can cross or leave."""
+    return is_between(value, cell[0], LAST_SLOT)
+
+
+def is_list_of(value, many):
+    """Return whether any value is a list of so many items."""
+    return isinstance(value, list) and len(value) == many
+
+
+def check_size(size):
+    """Raise InvalidSize unless a value is a size."""
+    if not is_between(size, 1, GREATEST_SIZE):
+        raise InvalidSize("a size is an integer from 1 to 8")
+
+
+def check_cells(size, cells):
+    """Raise the error of the first parameter that is wrong: the size or its cells."""
+    check_size(size)
+    if not isinstance(cells, list) or len(cells) > MOST_CELLS:
+        raise InvalidCells(None)
+    for index, cell in enumerate(cells):
+        if not is_cell(size, cell):
+            raise InvalidCells(index)
+        if index > 0 and cell[:2] <= cells[index - 1][:2]:
+            raise InvalidCells(index)
+
+
+def check_row(size, cells, row):
+    """Raise the error of the first parameter that is wrong, up to the row."""
+    check_cells(size, cells)
+    if not is_list_of(row, len(cells)):
+        raise InvalidRow(None)
+    taken = {}
+    for index, (cell, leaving) in enumerate(zip(cells, row)):
+        if not is_slot_of(cell, leaving) or (leaving, cell[2]) in taken:
+            raise InvalidRow(index)
+        taken[(leaving, cell[2])] = True
+
+
+def check_crossings(cells, crossings):
+    """Raise InvalidCrossings unless a value is crossing slots for these cells."""
+    if not is_list_of(crossings, len(cells)):
+        raise InvalidCrossings(None)
+    for index, (cell, crossing) in enumerate(zip(cells, crossings)):
+        if not is_slot_of(cell, crossing):
+            raise InvalidCrossings(index)
+
+
+def check_port(size, port):
+    """Raise InvalidPort unless a value is a port of a switch of this size."""
+    if not is_between(port, 0, size - 1):
+        raise InvalidPort("a port is an integer from 0 to size - 1")
+
+
+def check_slot(slot):
+    """Raise InvalidSlot unless a value is a slot."""
+    if not is_between(slot, 0, LAST_SLOT):
+        raise InvalidSlot("a slot is an integer from 0 to 10 ** 31 - 1")
+
+
+def check_number(number):
+    """Raise InvalidNumber unless a value is an integer from 0 on."""
+    if not is_integer(number) or number < 0:
+        raise InvalidNumber("a number is an integer from 0 on")

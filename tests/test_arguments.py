@@ -1,0 +1,205 @@
+"""Points 2 and 3: the errors of parameters and their order, arguments that stay, lists that are new."""
+
+import copy
+import importlib
+
+from idealtwin import errors
+from tests.helpers import THREE, TwinTest, crowd, far_cells
+from tests.interface import FUNCTIONS
+
+GIVEN = {
+    "size": 2, "cells": THREE, "row": [0, 1, 1], "crossings": [0, 0, 1], "outlet": 0, "slot": 1, "last": 1, "index": 1,
+    "value": [0, 1, 1],
+}
+KINDS = [None, True, False, "", "1", [], [1], (), (1,), {}, {"a": 1}, errors.InvalidSize("one"), errors.InvalidRow(1)]
+NO_LISTS = [None, True, False, 0, 1, -1, "", "011", (), (0, 1, 1), {}, {"a": 0}, errors.InvalidRow(1)]
+MANY = [(slot, 0, 0) for slot in range(61)]
+
+
+def indexed(index, *values):
+    return [(value, index) for value in values]
+
+
+# For each parameter its error, and wrong values; with the index that the error names, where it has one.
+WRONG = {
+    "size": (errors.InvalidSize, [*KINDS, 0, 9, -1, -(10 ** 40 - 1), 10 ** 200 - 1]),
+    "outlet": (errors.InvalidPort, [*KINDS, -1, 2, 7, 10 ** 200 - 1]),
+    "slot": (errors.InvalidSlot, [*KINDS, -1, 10 ** 31, 10 ** 200 - 1]),
+    "last": (errors.InvalidSlot, [*KINDS, -1, 10 ** 31, 10 ** 200 - 1]),
+    "index": (errors.InvalidNumber, [*KINDS, -1, -(10 ** 40 - 1), 2, 3, 10 ** 200 - 1]),
+    "cells": (errors.InvalidCells, [
+        *indexed(None, *NO_LISTS, tuple(THREE), MANY, [None] * 61, [(0, 0, 0)] * 1000),
+        *indexed(0, [None], [0], [True], ["0:0:0"], [[0, 0, 0]], [()], [(0, 0)], [(0, 0, 0, 0)], [{}]),
+        *indexed(0, [(False, 0, 0)], [(0, False, 0)], [(0, 0, True)], [(0, 0, None)], [("0", 0, 0)], [((0,), 0, 0)]),
+        *indexed(0, [(-1, 0, 0)], [(0, -1, 0)], [(0, 0, -1)], [(0, 2, 0)], [(0, 0, 2)], [(10 ** 30, 0, 0)]),
+        *indexed(0, [(0, 0, 2), (0, 0, 0), (0, 0, 0)], [(0, 2, 0), None], [None] * 60),
+        *indexed(1, [(0, 0, 0), (0, 0, 0)], [(0, 0, 0), (0, 0, 1)], [(0, 0, 1), (0, 0, 0)], [(0, 1, 0), (0, 0, 1)]),
+        *indexed(1, [(1, 0, 0), (0, 1, 0)], [(0, 0, 0), [1, 0, 0]], [(0, 0, 0), (True, 0, 0)], [(0, 0, 0), (1, 2, 0)]),
+        *indexed(2, [*THREE[:2], (0, 1, 1)], [*THREE[:2], None, None], [(0, 0, 0), (2, 0, 0), (1, 1, 0), (1, 1, 0)]),
+        *indexed(59, [*MANY[:59], (58, 0, 0)], [*MANY[:59], (59, 0, 2)], [*MANY[:59], (10 ** 30, 0, 0)]),
+    ]),
+    "row": (errors.InvalidRow, [
+        *indexed(None, *NO_LISTS, [], [0], [0, 1], [0, 1, 1, 2], [None] * 4),
+        *indexed(0, [None, 1, 1], [False, 1, 1], ["0", 1, 1], [(0,), 1, 1], [[0], 1, 1], [{}, 1, 1], [None] * 3),
+        *indexed(0, [-1, 1, 1], [10 ** 31, 1, 1], [10 ** 200 - 1, 1, 1], [-1, -1, 0], [errors.InvalidRow(1), 1, 1]),
+        *indexed(1, [0, True, 1], [0, -1, 1], [0, 10 ** 31, 1], [0, None, None]),
+        *indexed(1, [0, 0, 1], [1, 1, 1], [10 ** 31 - 1, 10 ** 31 - 1, 0], [0, 0, 0]),
+        *indexed(2, [0, 1, 0], [0, 1, True], [0, 1, 10 ** 31], [0, 1, "1"], [0, 1, None]),
+    ]),
+    "crossings": (errors.InvalidCrossings, [
+        *indexed(None, *NO_LISTS, [], [0], [0, 1], [0, 1, 1, 2], [None] * 4),
+        *indexed(0, [None, 1, 1], [False, 1, 1], ["0", 1, 1], [(0,), 1, 1], [-1, 1, 1], [10 ** 31, 1, 1], [None] * 3),
+        *indexed(1, [0, True, 1], [0, -1, 1], [0, 10 ** 31, 1], [0, None, None], [0, {}, 0]),
+        *indexed(2, [0, 1, 0], [0, 1, True], [0, 1, 10 ** 31], [0, 1, "1"], [0, 0, 0], [5, 5, 0]),
+    ]),
+}
+
+
+def wrong_values(parameter):
+    """Return the tuples (value, error, field) for a parameter."""
+    error, values = WRONG[parameter]
+    if parameter in ("cells", "row", "crossings"):
+        return [(value, error, ("index", index)) for value, index in values]
+    return [(value, error, None) for value in values]
+
+
+def calls():
+    """Return the tuples (function, parameters) of the interface."""
+    found = []
+    for module, functions in FUNCTIONS.items():
+        for name, parameters in functions.items():
+            found.append((getattr(importlib.import_module(module), name), parameters))
+    return found
+
+
+class ErrorsOfParametersTest(TwinTest):
+
+    def test_the_given_values_raise_none(self):
+        for function, parameters in calls():
+            with self.subTest(function.__name__):
+                function(*[GIVEN[parameter] for parameter in parameters])
+
+    def test_each_wrong_value(self):
+        for function, parameters in calls():
+            for parameter in parameters:
+                if parameter == "value":
+                    continue
+                for value, error, field in wrong_values(parameter):
+                    with self.subTest(function.__name__, parameter=parameter, value=value):
+                        named = {name: GIVEN[name] for name in parameters}
+                        named[parameter] = value
+                        self.assert_raises(error, field, function, **named)
+
+    def test_of_two_wrong_ones_the_first_is_told(self):
+        for function, parameters in calls():
+            parameters = [parameter for parameter in parameters if parameter != "value"]
+            for at, parameter in enumerate(parameters):
+                for behind in parameters[at + 1:]:
+                    with self.subTest(function.__name__, parameter=parameter, behind=behind):
+                        self._assert_first_told(function, parameter, behind)
+
+    def _assert_first_told(self, function, parameter, behind):
+        named = dict(GIVEN)
+        names = [name for function_, names in calls() if function_ is function for name in names]
+        seconds = wrong_values(behind)
+        for number, (value, error, field) in enumerate(wrong_values(parameter)):
+            for other, _, _ in (seconds[0], seconds[-1], seconds[number - number // len(seconds) * len(seconds)]):
+                named[parameter] = value
+                named[behind] = other
+                self.assert_raises(error, field, function, **{name: named[name] for name in names})
+
+    def test_all_wrong(self):
+        for function, parameters in calls():
+            for first in range(len(parameters)):
+                if parameters[first] == "value":
+                    continue
+                named = {name: GIVEN[name] for name in parameters[:first]}
+                value, error, field = wrong_values(parameters[first])[0]
+                named.update({name: None for name in parameters[first:]})
+                named[parameters[first]] = value
+                with self.subTest(function.__name__, first=parameters[first]):
+                    self.assert_raises(error, field, function, **named)
+
+    def test_what_a_point_lists_comes_behind(self):
+        named = {"size": 2, "cells": THREE, "row": [0, 2, 1], "crossings": [0, 0, 9], "last": 1}
+        for function, parameters in calls():
+            if "last" not in parameters and function.__name__ != "busy_index":
+                continue
+            for parameter in parameters:
+                for value, error, field in wrong_values(parameter):
+                    wrong = {name: named[name] for name in parameters}
+                    wrong[parameter] = value
+                    with self.subTest(function.__name__, parameter=parameter, value=value):
+                        self.assert_raises(error, field, function, **wrong)
+
+
+class RangesTest(TwinTest):
+
+    def call(self, function, **named):
+        return function(**named)
+
+    def test_sizes_from_1_to_8(self):
+        for function, parameters in calls():
+            named = dict(GIVEN, cells=[], row=[], crossings=[], index=0)
+            for size in range(1, 9):
+                with self.subTest(function.__name__, size=size):
+                    self.call(function, **{name: named[name] if name != "size" else size for name in parameters})
+
+    def test_ports_and_slots_at_their_ends(self):
+        for function, parameters in calls():
+            for size in range(1, 9):
+                for port in range(size):
+                    for slot in (0, 10 ** 30, 10 ** 31 - 1):
+                        named = dict(
+                            GIVEN, size=size, cells=[(0, port, port)], row=[0], crossings=[0], index=0, outlet=port,
+                            slot=slot, last=0,
+                        )
+                        self.call(function, **{name: named[name] for name in parameters})
+
+    def test_ports_of_the_size(self):
+        for function, parameters in calls():
+            if "outlet" in parameters:
+                for size in range(1, 9):
+                    named = dict(GIVEN, size=size, cells=[], outlet=size)
+                    wrong = {name: named[name] for name in parameters}
+                    self.assert_raises(errors.InvalidPort, None, function, **wrong)
+
+
+class ArgumentsStayTest(TwinTest):
+
+    def test_arguments_are_unchanged_and_results_are_new(self):
+        for cells in (THREE, crowd(), far_cells()):
+            size = 8
+            row = importlib.import_module("idealtwin.rows").first_come(size, list(cells))
+            named = dict(
+                GIVEN, size=size, cells=cells, row=row, crossings=[cell[0] for cell in cells], last=10 ** 30 - 1,
+                value=list(row), outlet=5,
+            )
+            for function, parameters in calls():
+                with self.subTest(function.__name__, many=len(cells)):
+                    self._assert_stay(function, {name: copy.deepcopy(named[name]) for name in parameters})
+
+    def _assert_stay(self, function, named):
+        before = copy.deepcopy(named)
+        first = function(**named)
+        self.assertEqual(repr(named), repr(before))
+        expected = copy.deepcopy(first)
+        self.assertFalse(any(first is value for value in named.values() if isinstance(value, list)))
+        if isinstance(first, list):
+            first.append("changed")
+            first[0] = "changed"
+        self.assertEqual(repr(named), repr(before))
+        self.assert_same(function(**named), expected)
+        self.assert_same(function(**before), expected)
+
+    def test_arguments_that_change_later_are_not_kept(self):
+        rows = importlib.import_module("idealtwin.rows")
+        turns = importlib.import_module("idealtwin.turns")
+        cells, row = [(0, 0, 0), (0, 1, 0)], [0, 1]
+        found = [rows.first_come(2, cells), turns.turned_row(2, cells, row, 1)]
+        kept = copy.deepcopy(found)
+        cells.append((1, 1, 1))
+        row[0] = 7
+        self.assert_same(found, kept)
+        self.assert_same(rows.first_come(2, cells), [0, 1, 1])
+        self.assert_raises(errors.InvalidRow, ("index", None), rows.is_busy, 2, cells, row)

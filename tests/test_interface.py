@@ -1,0 +1,75 @@
+"""The names, files and arguments of the interface, and the form that is easily checked."""
+
+import ast
+import importlib
+import inspect
+import pathlib
+
+from tests.helpers import FOUR, THREE, TwinTest
+from tests.interface import FUNCTIONS
+
+PACKAGE = pathlib.Path(__file__).resolve().parent.parent / "idealtwin"
+GIVEN = {
+    "size": 2, "cells": FOUR, "row": [1, 0, 2], "crossings": [0, 0, 1], "outlet": 0, "slot": 1, "last": 5, "index": 1,
+}
+
+
+class InterfaceTest(TwinTest):
+
+    def test_functions_stand_in_their_files(self):
+        for module, functions in FUNCTIONS.items():
+            for name in functions:
+                with self.subTest(name):
+                    function = getattr(importlib.import_module(module), name)
+                    self.assertTrue(inspect.isfunction(function))
+                    self.assertEqual((function.__module__, function.__name__), (module, name))
+
+    def test_arguments_by_position_and_by_name(self):
+        for module, functions in FUNCTIONS.items():
+            for name, parameters in functions.items():
+                with self.subTest(name):
+                    function = getattr(importlib.import_module(module), name)
+                    self.assertEqual(list(inspect.signature(function).parameters), parameters)
+                    given = dict(GIVEN, value=THREE)
+                    named = {parameter: given[parameter] for parameter in parameters}
+                    by_position = function(*named.values())
+                    self.assert_same(function(**named), by_position)
+                    self.assert_same(function(**dict(reversed(named.items()))), by_position)
+
+
+class FormTest(TwinTest):
+
+    def setUp(self):
+        super().setUp()
+        self.texts = {path.name: path.read_bytes().decode("utf-8") for path in PACKAGE.glob("*.py")}
+
+    def test_files(self):
+        kept = [path.name for path in PACKAGE.iterdir() if path.name != "__pycache__"]
+        self.assertEqual(sorted(kept), sorted(self.texts))
+        self.assertIn("__init__.py", kept)
+
+    def test_size_and_characters(self):
+        for name, text in self.texts.items():
+            with self.subTest(name):
+                lines = text.split("\n")
+                self.assertLessEqual(len(lines), 400)
+                self.assertLessEqual(max(len(line) for line in lines), 120)
+                self.assertEqual([sign for sign in text if not " " <= sign <= "~" and sign != "\n"], [])
+
+    def test_functions_are_short_and_plain(self):
+        for name, text in self.texts.items():
+            for node in ast.walk(ast.parse(text)):
+                if isinstance(node, ast.FunctionDef):
+                    with self.subTest(name, function=node.name):
+                        self.assertLessEqual(node.end_lineno - node.lineno + 1, 40)
+                        self.assertIsNotNone(ast.get_docstring(node) or node.name.startswith("_"))
+
+    def test_imports_come_from_the_package(self):
+        for name, text in self.texts.items():
+            for node in ast.walk(ast.parse(text)):
+                if isinstance(node, ast.ImportFrom):
+                    with self.subTest(name, line=node.lineno):
+                        module, _, rest = node.module.partition(".")
+                        self.assertEqual((module, node.level), ("idealtwin", 0))
+                        self.assertIn(rest + ".py", self.texts)
+                self.assertNotIsInstance(node, ast.Import)
