@@ -1,10 +1,13 @@
 """The checks of parameters: each one raises the error that the document names."""
 
 from idealtwin.errors import InvalidCells, InvalidCrossings, InvalidNumber, InvalidPort
-from idealtwin.errors import InvalidRow, InvalidSize, InvalidSlot
+from idealtwin.errors import InvalidRhythm, InvalidRow, InvalidSide, InvalidSize, InvalidSlot, InvalidSpeeds
 
 GREATEST_SIZE = 8
 MOST_CELLS = 60
+GREATEST_SPEED = 60
+LONGEST_RHYTHM = 40
+GREATEST_BEAT = 9
 LAST_COMING = 10 ** 30 - 1
 LAST_SLOT = 10 ** 31 - 1
 
@@ -90,7 +93,31 @@ def check_slot(slot):
         raise InvalidSlot("a slot is an integer from 0 to 10 ** 31 - 1")
 
 
-def check_number(number):
-    """Raise InvalidNumber unless a value is an integer from 0 on."""
-    if not is_integer(number) or number < 0:
-        raise InvalidNumber("a number is an integer from 0 on")
+def check_speeds(speeds):
+    """Raise InvalidSpeeds unless a value is a tuple of two speeds."""
+    if not isinstance(speeds, tuple) or len(speeds) != 2:
+        raise InvalidSpeeds("speeds are a tuple of two integers")
+    for speed in speeds:
+        if not is_between(speed, 1, GREATEST_SPEED):
+            raise InvalidSpeeds("speeds are integers from 1 to 60")
+
+
+def check_rhythm(rhythm):
+    """Raise InvalidRhythm unless a value is a rhythm."""
+    if not isinstance(rhythm, list) or not 1 <= len(rhythm) <= LONGEST_RHYTHM:
+        raise InvalidRhythm(None)
+    for index, beat in enumerate(rhythm):
+        if not is_between(beat, 0, GREATEST_BEAT):
+            raise InvalidRhythm(index)
+
+
+def check_side(side):
+    """Raise InvalidSide unless a value is one of the two sides."""
+    if side not in ("inputs", "outputs"):
+        raise InvalidSide("a side is inputs or outputs")
+
+
+def check_number(number, first=0, last=None):
+    """Raise InvalidNumber unless a value is an integer from first on, and to last where there is one."""
+    if not is_integer(number) or number < first or (last is not None and number > last):
+        raise InvalidNumber("a number is an integer in its range")

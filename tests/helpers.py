@@ -6,10 +6,18 @@ import signal
 import unittest
 from itertools import product
 
+from idealtwin import errors
+
 SECONDS = 120
 
 THREE = [(0, 0, 0), (0, 1, 0), (1, 1, 1)]
 FOUR = [(0, 0, 0), (0, 1, 0), (1, 0, 0)]
+ANY_VALUES = [
+    None, True, False, 0, 1, -1, 7, 10 ** 31, 10 ** 200 - 1, -(10 ** 200 - 1), "", "0", "0 1 1", "1" * 200, [], [0], [1],
+    [True], [False], [None], ["0"], [[]], [[[[[[]]]]]], [[0, 1, 1]], (), (0,), (0, 0), (0, 0, 0, 0), (None, None, None),
+    (False, 0, 0), (0, False, 0), (0, 0, True), ("0", "0", "0"), ((), (), ()), ([0], [0], [0]), {}, {"a": 1},
+    {"a": [0, {"b": (1,)}]}, [{}], ({},), [0] * 1000, errors.InvalidSize("one"), errors.InvalidRow(1),
+]
 
 
 def _too_slow(number, frame):

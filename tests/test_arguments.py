@@ -9,8 +9,10 @@ from tests.interface import FUNCTIONS
 
 GIVEN = {
     "size": 2, "cells": THREE, "row": [0, 1, 1], "crossings": [0, 0, 1], "outlet": 0, "slot": 1, "last": 1, "index": 1,
-    "value": [0, 1, 1],
+    "value": [0, 1, 1], "speeds": (1, 2), "rhythm": [1, 2], "side": "inputs", "number": 2, "longest": 2,
 }
+# The parameters whose errors have a field, here always the index.
+INDEXED = ("cells", "row", "crossings", "rhythm")
 KINDS = [None, True, False, "", "1", [], [1], (), (1,), {}, {"a": 1}, errors.InvalidSize("one"), errors.InvalidRow(1)]
 NO_LISTS = [None, True, False, 0, 1, -1, "", "011", (), (0, 1, 1), {}, {"a": 0}, errors.InvalidRow(1)]
 MANY = [(slot, 0, 0) for slot in range(61)]
@@ -52,13 +54,30 @@ WRONG = {
         *indexed(1, [0, True, 1], [0, -1, 1], [0, 10 ** 31, 1], [0, None, None], [0, {}, 0]),
         *indexed(2, [0, 1, 0], [0, 1, True], [0, 1, 10 ** 31], [0, 1, "1"], [0, 0, 0], [5, 5, 0]),
     ]),
+    "speeds": (errors.InvalidSpeeds, [
+        *KINDS, 0, 1, 12, "12", [1, 2], (1, 2, 3), (1, 1, 1), ((1, 2),), {1: 1, 2: 2}, (0, 1), (1, 0), (61, 1), (1, 61),
+        (-1, 1), (1, -1), (True, 1), (1, True), ("1", 1), (1, "2"), (None, 1), (1, None), ([1], 1), (1, (2,)), (1, {}),
+        (10 ** 200 - 1, 1), (1, 10 ** 200 - 1), (None, None),
+    ]),
+    "rhythm": (errors.InvalidRhythm, [
+        *indexed(None, *NO_LISTS, [], [1] * 41, [None] * 41, [1] * 1000),
+        *indexed(0, [-1], [10], [True], [False], [None], ["1"], [[1]], [(1,)], [{}], [10 ** 200 - 1], [10] * 40),
+        *indexed(1, [0, 10], [9, -1], [1, True], [0, None, None], [1, [1]], [2, "2", 2], [1, errors.InvalidRow(1)]),
+        *indexed(39, [9] * 39 + [10], [0] * 39 + [-1], [1] * 39 + [False]),
+    ]),
+    "side": (errors.InvalidSide, [
+        *KINDS, 0, 1, "input", "output", "Inputs", "INPUTS", " inputs", "outputs ", "inputs outputs", ["inputs"],
+        ("outputs",), {"inputs": "outputs"}, ("inputs", "outputs"), 10 ** 200 - 1,
+    ]),
+    "number": (errors.InvalidNumber, [*KINDS, 0, -1, -(10 ** 40 - 1), -(10 ** 200 - 1)]),
+    "longest": (errors.InvalidNumber, [*KINDS, 0, -1, -(10 ** 40 - 1), 10 ** 30 + 1, 10 ** 200 - 1]),
 }
 
 
 def wrong_values(parameter):
     """Return the tuples (value, error, field) for a parameter."""
     error, values = WRONG[parameter]
-    if parameter in ("cells", "row", "crossings"):
+    if parameter in INDEXED:
         return [(value, error, ("index", index)) for value, index in values]
     return [(value, error, None) for value in values]
 
@@ -121,9 +140,9 @@ class ErrorsOfParametersTest(TwinTest):
                     self.assert_raises(error, field, function, **named)
 
     def test_what_a_point_lists_comes_behind(self):
-        named = {"size": 2, "cells": THREE, "row": [0, 2, 1], "crossings": [0, 0, 9], "last": 1}
+        named = {"size": 2, "cells": THREE, "row": [0, 2, 1], "crossings": [0, 0, 9], "last": 1, "number": 1}
         for function, parameters in calls():
-            if "last" not in parameters and function.__name__ != "busy_index":
+            if "last" not in parameters and function.__name__ not in ("busy_index", "plan_by_leaving", "plan_by_coming"):
                 continue
             for parameter in parameters:
                 for value, error, field in wrong_values(parameter):
@@ -176,7 +195,20 @@ class ArgumentsStayTest(TwinTest):
                 value=list(row), outlet=5,
             )
             for function, parameters in calls():
+                if cells != THREE and function.__name__ == "plan_by_coming":
+                    continue
                 with self.subTest(function.__name__, many=len(cells)):
+                    self._assert_stay(function, {name: copy.deepcopy(named[name]) for name in parameters})
+
+    def test_more_arguments_of_some_functions(self):
+        for function, parameters in calls():
+            for named in (
+                dict(GIVEN, speeds=(1, 1), rhythm=[1], slot=2, crossings=[2, 2, 2], last=5, value=[[0], [1, 2]]),
+                dict(GIVEN, size=8, speeds=(6, 1), rhythm=[0, 1], side="outputs", number=1, crossings=[1, 1, 1]),
+                dict(GIVEN, row=[1, 0, 1], rhythm=[9], side="outputs", number=9, value=[0, 0, 1], slot=0)
+                if function.__name__ != "plan_by_coming" else GIVEN,
+            ):
+                with self.subTest(function.__name__, named=named):
                     self._assert_stay(function, {name: copy.deepcopy(named[name]) for name in parameters})
 
     def _assert_stay(self, function, named):
@@ -184,13 +216,19 @@ class ArgumentsStayTest(TwinTest):
         first = function(**named)
         self.assertEqual(repr(named), repr(before))
         expected = copy.deepcopy(first)
-        self.assertFalse(any(first is value for value in named.values() if isinstance(value, list)))
-        if isinstance(first, list):
-            first.append("changed")
-            first[0] = "changed"
+        self._spoil(first)
         self.assertEqual(repr(named), repr(before))
         self.assert_same(function(**named), expected)
         self.assert_same(function(**before), expected)
+
+    def _spoil(self, value):
+        """Change each list in a value, inner ones first."""
+        if isinstance(value, (list, tuple)):
+            for item in value:
+                self._spoil(item)
+        if isinstance(value, list):
+            value.append("changed")
+            value[0] = "changed"
 
     def test_arguments_that_change_later_are_not_kept(self):
         rows = importlib.import_module("idealtwin.rows")

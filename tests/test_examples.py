@@ -31,7 +31,55 @@ TURNS = """
 [True, False, (2, 1)]
 """
 
-# The document has no example under these two files that raises; these show that one would be checked.
+PLANS = """
+>>> from idealtwin.plans import is_plan, keeps_rhythm, keeps_speeds, pairings_at, shows_pairings, speeds_of
+>>> [speeds_of(2, three, [0, 1, 1]), speeds_of(2, three, [0, 0, 1]), is_plan(2, three, [0, 1, 1], [0, 0, 1]), is_plan(2, three, [0, 1, 1], [1, 1, 1])]
+[(2, 1), (1, 2), True, False]
+>>> [keeps_speeds(2, three, [0, 0, 1], (1, 2)), keeps_speeds(2, three, [0, 0, 1], (1, 1)), keeps_rhythm(2, three, [0, 0, 1], [2, 1]), keeps_rhythm(2, three, [0, 0, 1], [1, 2])]
+[True, False, True, False]
+>>> [shows_pairings(2, three, [0, 1, 1], 1, value) for value in [[[2], [1]], [[1, 2]], [[1], [2], []]]], pairings_at(2, three, [0, 1, 1], 0)
+([True, False, False], [[0]])
+"""
+
+SLOWSIDES = """
+>>> from idealtwin.slowsides import bunch_number, bunches, clash_number, clashes, plan_by_coming, plan_by_leaving
+>>> [clashes(2, three, [0, 1, 1]), clash_number(2, three, [0, 1, 1]), bunches(2, three), bunch_number(2, three)]
+[[(1, 1)], 2, [(0, 0)], 2]
+>>> [plan_by_leaving(2, three, [0, 1, 1], number) for number in (1, 2)] + [plan_by_coming(2, three, [0, 1, 1], number) for number in (1, 2)]
+[None, [0, 1, 1], None, [0, 0, 1]]
+>>> plan_by_leaving(2, three, [0, 2, 1], 2)
+raises NotBusy
+"""
+
+JAMS = """
+>>> from idealtwin.slowsides import jam, shows_jam, shows_side_plan, side_plan
+>>> [side_plan(2, three, [0, 1, 1], [1], "inputs"), jam(2, three, [0, 1, 1], [1], "outputs"), side_plan(2, three, [0, 1, 1], [0, 2], "inputs")]
+[[0, 0, 1], None, None]
+>>> [shows_jam(2, three, [0, 1, 1], [0, 2], "inputs", value) for value in [(0, 0, 0), (1, 0, 1), (0, 1, 0)]], shows_side_plan(2, three, [0, 1, 1], [2], "inputs", [0, 1, 1])
+([True, False, False], True)
+"""
+
+SPEEDS = """
+>>> from idealtwin.speeds import forcing, is_enough, least_speeds
+>>> [is_enough(3, speeds) for speeds in [(2, 2), (1, 2), (1, 3), (9, 1)]], [least_speeds(size) for size in (1, 2, 3)]
+([True, False, True, True], [[(1, 1)], [(1, 2), (2, 1)], [(1, 3), (2, 2), (3, 1)]])
+>>> [forcing(2, (1, 1)) == (three, [0, 1, 1]), forcing(2, (2, 2)), forcing(3, (1, 2))]
+[True, None, ([(0, 0, 0), (0, 1, 0), (0, 2, 0), (1, 1, 1), (1, 2, 2), (2, 2, 1)], [0, 1, 2, 1, 1, 2])]
+>>> forcing(3, (2, 1))
+([(0, 0, 2), (0, 1, 2), (1, 0, 1), (1, 1, 1), (1, 2, 2), (2, 0, 0)], [2, 0, 2, 1, 1, 2])
+"""
+
+RHYTHMS = """
+>>> from idealtwin.rhythms import breaking, rhythm_word, unsure
+>>> [unsure(2, three, [0, 1, 1], rhythm) for rhythm in [[1], [1, 2], [2, 1], [2]]]
+[[1], [], [], []]
+>>> [rhythm_word(2, [1], 1), rhythm_word(2, [1], 2), rhythm_word(2, [1, 2], 2), rhythm_word(2, [1, 2], 3), rhythm_word(1, [1], 9), rhythm_word(2, [2], 10 ** 30)]
+['sure', 'fails', 'sure', 'open', 'sure', 'sure']
+>>> [breaking(2, [1], 2) == (three, [0, 1, 1]), breaking(2, [2, 0], 1), breaking(2, [2, 1, 1], 5), breaking(2, [1, 2], 9)]
+[True, ([(1, 0, 0)], [1]), ([(1, 0, 0), (1, 1, 0), (2, 1, 1)], [1, 2, 2]), None]
+"""
+
+# The document has no example under rows.py and turns.py that raises; these show that one would be checked.
 RAISING = """
 >>> from idealtwin.rows import busy_index, first_come
 >>> from idealtwin.turns import turned_row
@@ -56,6 +104,21 @@ class ExamplesTest(TwinTest):
 
     def test_turns(self):
         self.run_examples(TURNS, errors)
+
+    def test_plans(self):
+        self.run_examples(PLANS, errors)
+
+    def test_slowsides(self):
+        self.run_examples(SLOWSIDES, errors)
+
+    def test_jams(self):
+        self.run_examples(JAMS, errors)
+
+    def test_speeds(self):
+        self.run_examples(SPEEDS, errors)
+
+    def test_rhythms(self):
+        self.run_examples(RHYTHMS, errors)
 
     def test_raising(self):
         self.run_examples(RAISING, errors)

@@ -11,7 +11,10 @@ from tests.interface import FUNCTIONS
 PACKAGE = pathlib.Path(__file__).resolve().parent.parent / "idealtwin"
 GIVEN = {
     "size": 2, "cells": FOUR, "row": [1, 0, 2], "crossings": [0, 0, 1], "outlet": 0, "slot": 1, "last": 5, "index": 1,
+    "speeds": (1, 2), "rhythm": [1, 1, 2], "side": "outputs", "number": 2, "longest": 3,
 }
+# Functions that raise an error with these values get others.
+OTHERS = {"plan_by_coming": {"cells": THREE, "row": [0, 1, 1]}}
 
 
 class InterfaceTest(TwinTest):
@@ -31,6 +34,7 @@ class InterfaceTest(TwinTest):
                     function = getattr(importlib.import_module(module), name)
                     self.assertEqual(list(inspect.signature(function).parameters), parameters)
                     given = dict(GIVEN, value=THREE)
+                    given.update(OTHERS.get(name, {}))
                     named = {parameter: given[parameter] for parameter in parameters}
                     by_position = function(*named.values())
                     self.assert_same(function(**named), by_position)
