@@ -1,13 +1,16 @@
 """The checks of parameters: each one raises the error that the document names."""
 
-from idealtwin.errors import InvalidCells, InvalidCrossings, InvalidNumber, InvalidPort
-from idealtwin.errors import InvalidRhythm, InvalidRow, InvalidSide, InvalidSize, InvalidSlot, InvalidSpeeds
+from idealtwin.errors import InvalidCells, InvalidCrossings, InvalidFrame, InvalidNumber, InvalidPort, InvalidRhythm
+from idealtwin.errors import InvalidRow, InvalidRule, InvalidSide, InvalidSize, InvalidSlot, InvalidSpeeds
+from idealtwin.errors import InvalidWaiting
 
 GREATEST_SIZE = 8
 MOST_CELLS = 60
 GREATEST_SPEED = 60
 LONGEST_RHYTHM = 40
 GREATEST_BEAT = 9
+MOST_WAITING = 24
+LONGEST_FRAME = 40
 LAST_COMING = 10 ** 30 - 1
 LAST_SLOT = 10 ** 31 - 1
 
@@ -30,6 +33,14 @@ def is_cell(size, value):
     if not is_between(slot, 0, LAST_COMING):
         return False
     return is_between(entry, 0, size - 1) and is_between(outlet, 0, size - 1)
+
+
+def is_waiting_cell(value):
+    """Return whether any value is a waiting cell."""
+    if not isinstance(value, tuple) or len(value) != 4:
+        return False
+    ports = all([is_between(port, 0, GREATEST_SIZE - 1) for port in value[:2]])
+    return ports and all([is_between(slot, 0, LAST_SLOT) for slot in value[2:]])
 
 
 def is_slot_of(cell, value):
@@ -115,6 +126,43 @@ def check_side(side):
     """Raise InvalidSide unless a value is one of the two sides."""
     if side not in ("inputs", "outputs"):
         raise InvalidSide("a side is inputs or outputs")
+
+
+def check_rule(rule):
+    """Raise InvalidRule unless a value is one of the three rules."""
+    if rule not in ("newest", "oldest", "urgent"):
+        raise InvalidRule("a rule is newest, oldest or urgent")
+
+
+def check_waiting(waiting):
+    """Raise InvalidWaiting unless a value is a list of waiting cells."""
+    if not isinstance(waiting, list) or len(waiting) > MOST_WAITING:
+        raise InvalidWaiting(None)
+    taken = {}
+    for index, cell in enumerate(waiting):
+        if not is_waiting_cell(cell):
+            raise InvalidWaiting(index)
+        places = [("age", cell[0], cell[2]), ("leaving", cell[1], cell[3])]
+        if any([place in taken for place in places]):
+            raise InvalidWaiting(index)
+        for place in places:
+            taken[place] = True
+
+
+def check_frame(size, frame):
+    """Raise the error of the first parameter that is wrong: the size or the frame."""
+    check_size(size)
+    if not isinstance(frame, tuple) or len(frame) != 2:
+        raise InvalidFrame(None)
+    length, cells = frame
+    if not is_between(length, 1, LONGEST_FRAME):
+        raise InvalidFrame(0)
+    try:
+        check_cells(size, cells)
+    except InvalidCells:
+        raise InvalidFrame(1)
+    if any([cell[0] >= length for cell in cells]):
+        raise InvalidFrame(1)
 
 
 def check_number(number, first=0, last=None):

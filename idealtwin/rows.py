@@ -2,7 +2,8 @@
 
 from idealtwin.checks import check_cells, check_number, check_port, check_row, check_slot
 from idealtwin.errors import InvalidCells, InvalidNumber, InvalidRow, NotBusy
-from idealtwin.queues import choices_of, chosen_row, first_come_row, first_gap, waiting_in, waiting_numbers
+from idealtwin.numbering import digits_of, index_of_digits, number_of_lists
+from idealtwin.queues import choices_of, chosen_row, coming_slots, first_come_row, first_gap, ready_in, ready_numbers
 
 
 def is_cells(size, value):
@@ -50,7 +51,7 @@ def first_come(size, cells):
 def last_come(size, cells):
     """Return the busy row that always sends the waiting cell with the greatest index."""
     check_cells(size, cells)
-    return chosen_row(cells, [-1] * len(cells))
+    return chosen_row(cells, coming_slots(cells), [-1] * len(cells))
 
 
 def busy_slots(size, cells, outlet):
@@ -66,48 +67,29 @@ def waiting_count(size, cells, outlet, slot):
     check_cells(size, cells)
     check_port(size, outlet)
     check_slot(slot)
-    return len(waiting_in(cells, first_come_row(cells), outlet, slot))
+    return len(ready_in(cells, coming_slots(cells), first_come_row(cells), outlet, slot))
 
 
 def busy_count(size, cells):
     """Return the number of the busy rows."""
     check_cells(size, cells)
-    return _product(waiting_numbers(cells))
+    return number_of_lists(ready_numbers(cells, coming_slots(cells)))
 
 
 def nth_busy(size, cells, index):
     """Return the busy row with an index, the rows ascending by their choices."""
     check_cells(size, cells)
     check_number(index)
-    numbers = waiting_numbers(cells)
-    if index >= _product(numbers):
+    coming = coming_slots(cells)
+    numbers = ready_numbers(cells, coming)
+    if index >= number_of_lists(numbers):
         raise InvalidNumber("an index is less than the number of the busy rows")
-    return chosen_row(cells, _digits(index, numbers))
+    return chosen_row(cells, coming, digits_of(index, numbers))
 
 
 def busy_index(size, cells, row):
     """Return the index of a busy row."""
     if not is_busy(size, cells, row):
         raise NotBusy("only busy rows have an index")
-    index = 0
-    for choice, number in zip(choices_of(cells, row), waiting_numbers(cells)):
-        index = index * number + choice
-    return index
-
-
-def _product(numbers):
-    result = 1
-    for number in numbers:
-        result = result * number
-    return result
-
-
-def _digits(index, bases):
-    """Return the digits of an index, one for each base; the last one counts single steps."""
-    digits = []
-    rest = index
-    for base in reversed(bases):
-        rest, digit = divmod(rest, base)
-        digits.append(digit)
-    digits.reverse()
-    return digits
+    coming = coming_slots(cells)
+    return index_of_digits(choices_of(cells, coming, row), ready_numbers(cells, coming))

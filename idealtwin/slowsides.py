@@ -4,6 +4,7 @@ from idealtwin.checks import check_cells, check_number, check_rhythm, check_row,
 from idealtwin.errors import NotBusy, NotPressed
 from idealtwin.loads import ENTRY, OUTLET, crowded_places, greatest_load, keeps_beats, pairings_within
 from idealtwin.plans import is_plan
+from idealtwin.queues import coming_slots
 from idealtwin.rows import is_busy
 from idealtwin.turns import is_pressed
 
@@ -23,13 +24,13 @@ def clash_number(size, cells, row):
 def bunches(size, cells):
     """Return the ascending tuples (slot, outlet) such that at least two cells of an output come in a slot."""
     check_cells(size, cells)
-    return crowded_places(cells, _coming(cells), OUTLET)
+    return crowded_places(cells, coming_slots(cells), OUTLET)
 
 
 def bunch_number(size, cells):
     """Return the greatest number of cells of one output that come in one slot; 0 without cells."""
     check_cells(size, cells)
-    return greatest_load(cells, _coming(cells), OUTLET)
+    return greatest_load(cells, coming_slots(cells), OUTLET)
 
 
 def plan_by_leaving(size, cells, row, number):
@@ -47,7 +48,7 @@ def plan_by_coming(size, cells, row, number):
     check_number(number, 1)
     if not is_pressed(size, cells, row):
         raise NotPressed("only in a pressed row each cell has to cross in its own slot")
-    coming = _coming(cells)
+    coming = coming_slots(cells)
     return coming if greatest_load(cells, coming, OUTLET) <= number else None
 
 
@@ -55,7 +56,7 @@ def side_plan(size, cells, row, rhythm, side):
     """Return a plan that keeps the rhythm at one side; None if there is none."""
     if jam(size, cells, row, rhythm, side) is not None:
         return None
-    plan = _coming(cells)
+    plan = coming_slots(cells)
     for port in range(size):
         crossed = _crossed(_spans(cells, row, side, port), rhythm)
         for index, slot in crossed.items():
@@ -93,10 +94,6 @@ def _check_one_side(size, cells, row, rhythm, side):
     check_row(size, cells, row)
     check_rhythm(rhythm)
     check_side(side)
-
-
-def _coming(cells):
-    return [cell[0] for cell in cells]
 
 
 def _part(side):

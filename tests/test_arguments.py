@@ -4,15 +4,17 @@ import copy
 import importlib
 
 from idealtwin import errors
-from tests.helpers import THREE, TwinTest, crowd, far_cells
+from tests.helpers import CROSSED, THREE, TwinTest, crowd, far_cells
 from tests.interface import FUNCTIONS
 
 GIVEN = {
     "size": 2, "cells": THREE, "row": [0, 1, 1], "crossings": [0, 0, 1], "outlet": 0, "slot": 1, "last": 1, "index": 1,
     "value": [0, 1, 1], "speeds": (1, 2), "rhythm": [1, 2], "side": "inputs", "number": 2, "longest": 2,
+    "other_crossings": [0, 1, 1], "rule": "oldest", "waiting": CROSSED, "picks": [0, 2], "other_picks": [1, 3],
+    "frame": (2, THREE[:2]), "rounds": 2,
 }
 # The parameters whose errors have a field, here always the index.
-INDEXED = ("cells", "row", "crossings", "rhythm")
+INDEXED = ("cells", "row", "crossings", "other_crossings", "rhythm", "waiting", "frame")
 KINDS = [None, True, False, "", "1", [], [1], (), (1,), {}, {"a": 1}, errors.InvalidSize("one"), errors.InvalidRow(1)]
 NO_LISTS = [None, True, False, 0, 1, -1, "", "011", (), (0, 1, 1), {}, {"a": 0}, errors.InvalidRow(1)]
 MANY = [(slot, 0, 0) for slot in range(61)]
@@ -71,12 +73,69 @@ WRONG = {
     ]),
     "number": (errors.InvalidNumber, [*KINDS, 0, -1, -(10 ** 40 - 1), -(10 ** 200 - 1)]),
     "longest": (errors.InvalidNumber, [*KINDS, 0, -1, -(10 ** 40 - 1), 10 ** 30 + 1, 10 ** 200 - 1]),
+    "rule": (errors.InvalidRule, [
+        *KINDS, 0, 1, "new", "Newest", "OLDEST", " oldest", "urgent ", "newest oldest", "newestoldest", ["newest"],
+        ("urgent",), {"newest": "oldest"}, ("newest", "oldest", "urgent"), 10 ** 200 - 1,
+    ]),
+    "waiting": (errors.InvalidWaiting, [
+        *indexed(None, *NO_LISTS, tuple(CROSSED), [(0, 0, age, age) for age in range(25)], [None] * 25, [0] * 1000),
+        *indexed(0, [None], [0], [True], ["0:0"], [[0, 0, 0, 0]], [()], [(0, 0, 0)], [(0, 0, 0, 0, 0)], [{}]),
+        *indexed(0, [(True, 0, 0, 0)], [(0, False, 0, 0)], [(0, 0, True, 0)], [(0, 0, 0, False)], [(None,) * 4]),
+        *indexed(0, [("0", 0, 0, 0)], [(0, (0,), 0, 0)], [(0, 0, [0], 0)], [(0, 0, 0, "0")], [None] * 24),
+        *indexed(0, [(-1, 0, 0, 0)], [(0, -1, 0, 0)], [(0, 0, -1, 0)], [(0, 0, 0, -1)], [(8, 0, 0, 0)], [(0, 8, 0, 0)]),
+        *indexed(0, [(0, 0, 10 ** 31, 0)], [(0, 0, 0, 10 ** 31)], [(9, 0, 0, 0), (9, 0, 0, 0)]),
+        *indexed(1, [(0, 0, 3, 1), (0, 1, 3, 2)], [(0, 0, 1, 3), (1, 0, 2, 3)], [(0, 0, 1, 1), (0, 0, 1, 1)]),
+        *indexed(1, [(0, 0, 0, 0), None], [(0, 0, 0, 0), [0, 0, 1, 1]], [(0, 0, 0, 0), (0, 0, 0, 0), None]),
+        *indexed(2, [(0, 0, 3, 1), (1, 0, 3, 2), (0, 1, 3, 2)], [(0, 0, 1, 3), (0, 1, 2, 3), (1, 0, 2, 3)]),
+        *indexed(23, [*[(at, 0, 5, at) for at in range(8)], *[(0, 1, at, at) for at in range(9, 24)], (0, 7, 9, 0)]),
+    ]),
+    "picks": (errors.InvalidPicks, [
+        *NO_LISTS, [-1], [4], [0, 4], [2, 0], [0, 0], [0, 0, 2], [0, 1], [0, 3], [1, 2], [2, 3], [0, 1, 2, 3], [True],
+        [False], [None], ["0"], [[0]], [(0,)], [0, True], [0, None], [False, 2], [10 ** 200 - 1], [0] * 1000, [{}],
+        [errors.InvalidRow(1)],
+    ]),
+    "frame": (errors.InvalidFrame, [
+        *indexed(None, *KINDS, 0, [2, THREE], (2,), (2, THREE, THREE), ((2, THREE),), {1: 2, 2: 3}, (True,)),
+        *indexed(0, (0, []), (41, []), (-1, THREE), (True, []), ("2", []), (None, []), ([2], []), ((2,), []), ({}, [])),
+        *indexed(0, (0, None), (41, [(0, 2, 0)]), (10 ** 200 - 1, THREE), (None, None)),
+        *indexed(1, (2, None), (2, ()), (2, tuple(THREE)), (2, {}), (2, 0), (2, "0:0:0"), (2, True), (2, [None])),
+        *indexed(1, (1, THREE), (2, [(2, 0, 0)]), (2, [(0, 0, 0), (2, 0, 0)]), (40, [(40, 0, 0)]), (2, [(0, 2, 0)])),
+        *indexed(1, (2, [(0, 0, 2)]), (2, [(0, 1, 0), (0, 0, 0)]), (2, [(0, 0, 0), (0, 0, 1)]), (2, [(0, 0, 0)] * 61)),
+        *indexed(1, (40, MANY), (1, [(10 ** 29, 0, 0)]), (2, [(0, True, 0)]), (2, [[0, 0, 0]]), (2, [(0, 0)])),
+    ]),
+    "rounds": (errors.InvalidNumber, [*KINDS, -1, -(10 ** 40 - 1), -(10 ** 200 - 1)]),
+}
+WRONG["other_crossings"] = WRONG["crossings"]
+WRONG["other_picks"] = WRONG["picks"]
+# Where a function takes other values for a parameter than others do.
+WRONG_FOR = {
+    ("leaving_of", "number"): (errors.InvalidNumber, [*KINDS, -1, -(10 ** 40 - 1), 10 ** 30 + 1, 10 ** 200 - 1]),
+    ("left_over", "rounds"): (errors.InvalidNumber, [*KINDS, -1, -(10 ** 40 - 1), 10 ** 30 + 1, 10 ** 200 - 1]),
+    ("clash_pairs", "rounds"): (errors.InvalidNumber, [*KINDS, -1, -(10 ** 40 - 1), 10 ** 30 + 1, 10 ** 200 - 1]),
+}
+for name in ("better", "worse"):
+    more = [[], [0], [1], [2], [3], [0, 2, 3]]
+    for pairing in ("picks", "other_picks"):
+        WRONG_FOR[(name, pairing)] = (errors.InvalidPicks, [*WRONG["picks"][1], *more])
+# With these values a function raises an error that a point lists; it comes behind all errors of parameters.
+LISTED = {
+    "turned_cells": (errors.Impossible, {"row": [0, 2, 1]}),
+    "turned_row": (errors.Impossible, {"row": [0, 2, 1]}),
+    "turned_plan": (errors.Impossible, {"crossings": [0, 0, 9]}),
+    "busy_index": (errors.NotBusy, {"row": [0, 2, 1]}),
+    "plan_by_leaving": (errors.NotBusy, {"row": [0, 2, 1]}),
+    "plan_by_coming": (errors.NotPressed, {"row": [0, 2, 1]}),
+    "run_plan": (errors.Impossible, {"rhythm": [0, 0]}),
+    "served_index": (errors.NotBusy, {"row": [0, 2, 1]}),
+    "unrolled": (errors.TooLarge, {"rounds": 31}),
+    "steady_count": (errors.TooLarge, {"waiting": [(0, 0, age, age) for age in range(13)]}),
+    "nth_steady": (errors.TooLarge, {"waiting": [(0, 0, age, age) for age in range(13)]}),
 }
 
 
-def wrong_values(parameter):
-    """Return the tuples (value, error, field) for a parameter."""
-    error, values = WRONG[parameter]
+def wrong_values(function, parameter):
+    """Return the tuples (value, error, field) for a parameter of a function."""
+    error, values = WRONG_FOR.get((function.__name__, parameter), WRONG[parameter])
     if parameter in INDEXED:
         return [(value, error, ("index", index)) for value, index in values]
     return [(value, error, None) for value in values]
@@ -103,7 +162,7 @@ class ErrorsOfParametersTest(TwinTest):
             for parameter in parameters:
                 if parameter == "value":
                     continue
-                for value, error, field in wrong_values(parameter):
+                for value, error, field in wrong_values(function, parameter):
                     with self.subTest(function.__name__, parameter=parameter, value=value):
                         named = {name: GIVEN[name] for name in parameters}
                         named[parameter] = value
@@ -120,8 +179,8 @@ class ErrorsOfParametersTest(TwinTest):
     def _assert_first_told(self, function, parameter, behind):
         named = dict(GIVEN)
         names = [name for function_, names in calls() if function_ is function for name in names]
-        seconds = wrong_values(behind)
-        for number, (value, error, field) in enumerate(wrong_values(parameter)):
+        seconds = wrong_values(function, behind)
+        for number, (value, error, field) in enumerate(wrong_values(function, parameter)):
             for other, _, _ in (seconds[0], seconds[-1], seconds[number - number // len(seconds) * len(seconds)]):
                 named[parameter] = value
                 named[behind] = other
@@ -133,23 +192,28 @@ class ErrorsOfParametersTest(TwinTest):
                 if parameters[first] == "value":
                     continue
                 named = {name: GIVEN[name] for name in parameters[:first]}
-                value, error, field = wrong_values(parameters[first])[0]
+                value, error, field = wrong_values(function, parameters[first])[0]
                 named.update({name: None for name in parameters[first:]})
                 named[parameters[first]] = value
                 with self.subTest(function.__name__, first=parameters[first]):
                     self.assert_raises(error, field, function, **named)
 
     def test_what_a_point_lists_comes_behind(self):
-        named = {"size": 2, "cells": THREE, "row": [0, 2, 1], "crossings": [0, 0, 9], "last": 1, "number": 1}
         for function, parameters in calls():
-            if "last" not in parameters and function.__name__ not in ("busy_index", "plan_by_leaving", "plan_by_coming"):
+            if function.__name__ not in LISTED:
                 continue
+            error, listed = LISTED[function.__name__]
+            named = {name: dict(GIVEN, **listed)[name] for name in parameters}
+            self.assert_raises(error, None, function, **named)
             for parameter in parameters:
-                for value, error, field in wrong_values(parameter):
-                    wrong = {name: named[name] for name in parameters}
+                for value, told, field in wrong_values(function, parameter):
+                    wrong = dict(named)
                     wrong[parameter] = value
+                    # That an index is too great comes last of all.
+                    if parameter == "index" and type(value) is int and value > 0:
+                        told, field = error, None
                     with self.subTest(function.__name__, parameter=parameter, value=value):
-                        self.assert_raises(error, field, function, **wrong)
+                        self.assert_raises(told, field, function, **wrong)
 
 
 class RangesTest(TwinTest):
@@ -159,7 +223,9 @@ class RangesTest(TwinTest):
 
     def test_sizes_from_1_to_8(self):
         for function, parameters in calls():
-            named = dict(GIVEN, cells=[], row=[], crossings=[], index=0)
+            named = dict(
+                GIVEN, cells=[], row=[], crossings=[], other_crossings=[], index=0, frame=(1, [(0, 0, 0)]),
+            )
             for size in range(1, 9):
                 with self.subTest(function.__name__, size=size):
                     self.call(function, **{name: named[name] if name != "size" else size for name in parameters})
@@ -171,7 +237,7 @@ class RangesTest(TwinTest):
                     for slot in (0, 10 ** 30, 10 ** 31 - 1):
                         named = dict(
                             GIVEN, size=size, cells=[(0, port, port)], row=[0], crossings=[0], index=0, outlet=port,
-                            slot=slot, last=0,
+                            slot=slot, last=0, other_crossings=[slot], frame=(1, [(0, port, port)]),
                         )
                         self.call(function, **{name: named[name] for name in parameters})
 
@@ -179,7 +245,7 @@ class RangesTest(TwinTest):
         for function, parameters in calls():
             if "outlet" in parameters:
                 for size in range(1, 9):
-                    named = dict(GIVEN, size=size, cells=[], outlet=size)
+                    named = dict(GIVEN, size=size, cells=[], outlet=size, frame=(1, []))
                     wrong = {name: named[name] for name in parameters}
                     self.assert_raises(errors.InvalidPort, None, function, **wrong)
 
@@ -192,11 +258,10 @@ class ArgumentsStayTest(TwinTest):
             row = importlib.import_module("idealtwin.rows").first_come(size, list(cells))
             named = dict(
                 GIVEN, size=size, cells=cells, row=row, crossings=[cell[0] for cell in cells], last=10 ** 30 - 1,
-                value=list(row), outlet=5,
+                value=list(row), outlet=5, other_crossings=list(row),
+                frame=(40, [cell for cell in cells[:30] if cell[0] < 40]),
             )
             for function, parameters in calls():
-                if cells != THREE and function.__name__ == "plan_by_coming":
-                    continue
                 with self.subTest(function.__name__, many=len(cells)):
                     self._assert_stay(function, {name: copy.deepcopy(named[name]) for name in parameters})
 
@@ -205,16 +270,23 @@ class ArgumentsStayTest(TwinTest):
             for named in (
                 dict(GIVEN, speeds=(1, 1), rhythm=[1], slot=2, crossings=[2, 2, 2], last=5, value=[[0], [1, 2]]),
                 dict(GIVEN, size=8, speeds=(6, 1), rhythm=[0, 1], side="outputs", number=1, crossings=[1, 1, 1]),
-                dict(GIVEN, row=[1, 0, 1], rhythm=[9], side="outputs", number=9, value=[0, 0, 1], slot=0)
-                if function.__name__ != "plan_by_coming" else GIVEN,
+                dict(GIVEN, row=[1, 0, 1], rhythm=[9], side="outputs", number=9, value=[0, 0, 1], slot=0),
+                dict(GIVEN, rule="urgent", waiting=[], picks=[], other_picks=[], frame=(3, []), rounds=9),
             ):
                 with self.subTest(function.__name__, named=named):
                     self._assert_stay(function, {name: copy.deepcopy(named[name]) for name in parameters})
 
     def _assert_stay(self, function, named):
+        """Assert that a call leaves its arguments as they are, also one that raises an error."""
         before = copy.deepcopy(named)
-        first = function(**named)
+        try:
+            first = function(**named)
+        except errors.TwinError as error:
+            first = type(error).__name__
+            self.assertIn(first, ("NotPressed", "InvalidNumber", "Impossible"))
         self.assertEqual(repr(named), repr(before))
+        if first in ("NotPressed", "InvalidNumber", "Impossible"):
+            return
         expected = copy.deepcopy(first)
         self._spoil(first)
         self.assertEqual(repr(named), repr(before))

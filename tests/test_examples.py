@@ -79,6 +79,53 @@ RHYTHMS = """
 [True, ([(1, 0, 0)], [1]), ([(1, 0, 0), (1, 1, 0), (2, 1, 1)], [1, 2, 2]), None]
 """
 
+STEADY = """
+>>> from idealtwin.steady import better, disturber, entry_best, is_steady, nth_steady, outlet_best, steady_count, worse
+>>> waiting = [(0, 0, 0, 0), (1, 0, 0, 1), (1, 1, 1, 1)]
+>>> [entry_best(waiting), is_steady(waiting, [0, 2]), is_steady(waiting, [1]), disturber(waiting, [1]), steady_count(waiting)]
+[[0, 2], True, False, 0, 1]
+>>> crossed = [(0, 0, 2, 2), (0, 1, 1, 1), (1, 1, 2, 2), (1, 0, 1, 1)]
+>>> [entry_best(crossed), outlet_best(crossed), steady_count(crossed), nth_steady(crossed, 1), better(crossed, [0, 2], [1, 3]), worse(crossed, [0, 2], [1, 3])]
+[[0, 2], [1, 3], 2, [1, 3], [0, 2], [1, 3]]
+"""
+
+TWINS = """
+>>> from idealtwin.twins import late_cells, run_plan, twin_plan
+>>> [run_plan(2, three, [0, 1, 1], [2], "newest"), run_plan(2, three, [0, 1, 1], [1], "newest"), run_plan(2, three, [0, 1, 1], [1], "oldest"), run_plan(2, three, [0, 1, 1], [1], "urgent")]
+[[0, 0, 1], [0, 2, 1], [0, 1, 2], [0, 2, 1]]
+>>> [late_cells(2, three, [0, 1, 1], [0, 2, 1]), late_cells(2, three, [0, 1, 1], twin_plan(2, three, [0, 1, 1])), run_plan(1, [(10 ** 29, 0, 0)], [10 ** 29], [0, 1], "newest") == [10 ** 29 + 1]]
+[[1], [], True]
+"""
+
+SERVING = """
+>>> from idealtwin.serving import both_count, nth_served, served_count, served_index, serves, serves_some, starved
+>>> [serves(2, four, [0, 1, 1], row) for row in ([0, 1, 2], [1, 0, 2])], [served_count(2, four, crossings) for crossings in ([0, 0, 1], [0, 1, 1], [1, 0, 1], [1, 1, 1])]
+([True, False], [4, 2, 2, 0])
+>>> [nth_served(2, four, [1, 0, 1], index) for index in (0, 1)], served_index(2, four, [1, 0, 1], [2, 0, 1]), both_count(2, four, [0, 1, 1], [0, 0, 2])
+([[1, 0, 2], [2, 0, 1]], 1, 1)
+>>> [serves_some(2, four, [1, 1, 1]), starved(2, four, [1, 1, 1]), starved(2, four, [0, 2, 2]), starved(2, four, [0, 1, 1])]
+[False, (0, 0), (1, 0), None]
+"""
+
+FRAMES = """
+>>> from idealtwin.frames import is_frame, leaving_of, left_over, sender_at, unrolled
+>>> even = (2, three)
+>>> pair = (1, [(0, 0, 0), (0, 1, 0)])
+>>> [is_frame(2, even), is_frame(2, (1, three)), unrolled(2, pair, 2), [left_over(2, pair, 0, rounds) for rounds in (0, 1, 5, 10 ** 30)] == [0, 1, 5, 10 ** 30], left_over(2, even, 0, 7)]
+[True, False, [(0, 0, 0), (0, 1, 0), (1, 0, 0), (1, 1, 0)], True, 0]
+>>> [leaving_of(2, pair, 3, 1), sender_at(2, pair, 0, 7), leaving_of(2, even, 5, 1), sender_at(2, even, 1, 4), leaving_of(2, pair, 10 ** 29, 0) == 2 * 10 ** 29]
+[7, (3, 1), 11, None, True]
+"""
+
+CLASHING_FRAMES = """
+>>> from idealtwin.frames import clash_pairs, clear_rounds, first_clash
+>>> mixed = (2, [(0, 0, 0), (0, 1, 0), (1, 0, 1), (1, 1, 0)])
+>>> [clash_pairs(2, even, 10 ** 30) == 10 ** 30, first_clash(2, even), clear_rounds(2, even), first_clash(2, pair), clear_rounds(2, pair)]
+[True, (1, 1), 0, None, None]
+>>> [[clash_pairs(2, mixed, rounds) for rounds in (1, 2, 10)], first_clash(2, mixed), clear_rounds(2, mixed)]
+[[0, 1, 3], (3, 0), 1]
+"""
+
 # The document has no example under rows.py and turns.py that raises; these show that one would be checked.
 RAISING = """
 >>> from idealtwin.rows import busy_index, first_come
@@ -119,6 +166,21 @@ class ExamplesTest(TwinTest):
 
     def test_rhythms(self):
         self.run_examples(RHYTHMS, errors)
+
+    def test_steady(self):
+        self.run_examples(STEADY, errors)
+
+    def test_twins(self):
+        self.run_examples(TWINS, errors)
+
+    def test_serving(self):
+        self.run_examples(SERVING, errors)
+
+    def test_frames(self):
+        self.run_examples(FRAMES, errors)
+
+    def test_clashing_frames(self):
+        self.run_examples(FRAMES + CLASHING_FRAMES, errors)
 
     def test_raising(self):
         self.run_examples(RAISING, errors)

@@ -5,14 +5,18 @@ import importlib
 import inspect
 import pathlib
 
-from tests.helpers import FOUR, THREE, TwinTest
+from tests.helpers import CROSSED, FOUR, THREE, TwinTest
 from tests.interface import FUNCTIONS
 
 PACKAGE = pathlib.Path(__file__).resolve().parent.parent / "idealtwin"
 GIVEN = {
     "size": 2, "cells": FOUR, "row": [1, 0, 2], "crossings": [0, 0, 1], "outlet": 0, "slot": 1, "last": 5, "index": 1,
-    "speeds": (1, 2), "rhythm": [1, 1, 2], "side": "outputs", "number": 2, "longest": 3,
+    "speeds": (1, 2), "rhythm": [1, 1, 2], "side": "outputs", "number": 2, "longest": 3, "rule": "urgent",
+    "other_crossings": [0, 1, 1], "waiting": CROSSED, "picks": [1, 3], "other_picks": [0, 2], "frame": (2, THREE),
+    "rounds": 3,
 }
+# What the language of the package lets it import from elsewhere.
+LIBRARY = {"math": ["gcd"]}
 # Functions that raise an error with these values get others.
 OTHERS = {"plan_by_coming": {"cells": THREE, "row": [0, 1, 1]}}
 
@@ -71,7 +75,11 @@ class FormTest(TwinTest):
     def test_imports_come_from_the_package(self):
         for name, text in self.texts.items():
             for node in ast.walk(ast.parse(text)):
-                if isinstance(node, ast.ImportFrom):
+                if isinstance(node, ast.ImportFrom) and node.module in LIBRARY:
+                    with self.subTest(name, line=node.lineno):
+                        self.assertEqual([alias.asname for alias in node.names], [None] * len(node.names))
+                        self.assertLessEqual({alias.name for alias in node.names}, set(LIBRARY[node.module]))
+                elif isinstance(node, ast.ImportFrom):
                     with self.subTest(name, line=node.lineno):
                         module, _, rest = node.module.partition(".")
                         self.assertEqual((module, node.level), ("idealtwin", 0))
