@@ -1,8 +1,8 @@
 """The checks of parameters: each one raises the error that the document names."""
 
-from idealtwin.errors import InvalidCells, InvalidCrossings, InvalidFrame, InvalidNumber, InvalidPort, InvalidRhythm
-from idealtwin.errors import InvalidRow, InvalidRule, InvalidSide, InvalidSize, InvalidSlot, InvalidSpeeds
-from idealtwin.errors import InvalidWaiting
+from idealtwin.errors import InvalidArrivals, InvalidCells, InvalidCrossings, InvalidFrame, InvalidNumber
+from idealtwin.errors import InvalidPort, InvalidRhythm, InvalidRow, InvalidRule, InvalidSide, InvalidSize
+from idealtwin.errors import InvalidSlot, InvalidSpeeds, InvalidWaiting
 
 GREATEST_SIZE = 8
 MOST_CELLS = 60
@@ -13,6 +13,7 @@ MOST_WAITING = 24
 LONGEST_FRAME = 40
 LAST_COMING = 10 ** 30 - 1
 LAST_SLOT = 10 ** 31 - 1
+RULES = ("newest", "oldest", "urgent")
 
 
 def is_integer(value):
@@ -33,6 +34,13 @@ def is_cell(size, value):
     if not is_between(slot, 0, LAST_COMING):
         return False
     return is_between(entry, 0, size - 1) and is_between(outlet, 0, size - 1)
+
+
+def is_arrival(size, value):
+    """Return whether any value is a tuple (entry, outlet) of a switch of this size."""
+    if not isinstance(value, tuple) or len(value) != 2:
+        return False
+    return all([is_between(port, 0, size - 1) for port in value])
 
 
 def is_waiting_cell(value):
@@ -130,7 +138,7 @@ def check_side(side):
 
 def check_rule(rule):
     """Raise InvalidRule unless a value is one of the three rules."""
-    if rule not in ("newest", "oldest", "urgent"):
+    if rule not in RULES:
         raise InvalidRule("a rule is newest, oldest or urgent")
 
 
@@ -163,6 +171,17 @@ def check_frame(size, frame):
         raise InvalidFrame(1)
     if any([cell[0] >= length for cell in cells]):
         raise InvalidFrame(1)
+
+
+def check_arrivals(size, arrivals):
+    """Raise InvalidArrivals unless a value is a list of tuples (entry, outlet) with ascending inputs."""
+    if not isinstance(arrivals, list):
+        raise InvalidArrivals(None)
+    for index, cell in enumerate(arrivals):
+        if not is_arrival(size, cell):
+            raise InvalidArrivals(index)
+        if index > 0 and cell[0] <= arrivals[index - 1][0]:
+            raise InvalidArrivals(index)
 
 
 def check_number(number, first=0, last=None):

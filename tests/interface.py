@@ -1,4 +1,4 @@
-"""The functions of the document's interface that exist so far, with the names of their parameters."""
+"""The functions and classes of the document's interface, with the names of their parameters."""
 
 FUNCTIONS = {
     "idealtwin.rows": {
@@ -86,5 +86,35 @@ FUNCTIONS = {
         "clash_pairs": ["size", "frame", "rounds"],
         "first_clash": ["size", "frame"],
         "clear_rounds": ["size", "frame"],
+    },
+    "idealtwin.small": {
+        "has_plan": ["size", "cells", "row", "speeds"],
+        "plan_count": ["size", "cells", "row", "speeds"],
+        "nth_plan": ["size", "cells", "row", "speeds", "index"],
+        "least_pairs": ["size", "cells", "row"],
+    },
+    "idealtwin.texts": {
+        "format_cells": ["size", "cells"],
+        "format_numbers": ["numbers"],
+        "parse_cells": ["size", "text"],
+        "parse_row": ["size", "cells", "text"],
+    },
+}
+
+SWITCH = ["size", "rhythm"]
+# For each class its bases and the parameters of its constructor, and what the document lists for itself: methods
+# with their parameters, and properties.
+CLASSES = {
+    "idealtwin.switches": {
+        "Switch": (["object"], SWITCH, {
+            "tick": ["arrivals"], "undo": [], "leaving": ["number"], "crossing": ["number"], "__len__": [], "twin": [],
+            "described": [], "__eq__": ["other"],
+        }, ["size", "rhythm", "slot", "waiting", "held", "late"]),
+        "OldestSwitch": (["Switch"], SWITCH, {}, []),
+        "CountingSwitch": (["Switch"], SWITCH, {"described": []}, ["idle"]),
+        "OldestCountingSwitch": (["OldestSwitch", "CountingSwitch"], SWITCH, {}, []),
+    },
+    "idealtwin.console": {
+        "Console": (["object"], [], {"execute": ["command"]}, []),
     },
 }

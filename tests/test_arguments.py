@@ -11,8 +11,14 @@ GIVEN = {
     "size": 2, "cells": THREE, "row": [0, 1, 1], "crossings": [0, 0, 1], "outlet": 0, "slot": 1, "last": 1, "index": 1,
     "value": [0, 1, 1], "speeds": (1, 2), "rhythm": [1, 2], "side": "inputs", "number": 2, "longest": 2,
     "other_crossings": [0, 1, 1], "rule": "oldest", "waiting": CROSSED, "picks": [0, 2], "other_picks": [1, 3],
-    "frame": (2, THREE[:2]), "rounds": 2,
+    "frame": (2, THREE[:2]), "rounds": 2, "numbers": [0, 1, 10 ** 31 - 1],
 }
+# What some functions are given instead.
+GIVEN_TO = {
+    "nth_plan": {"speeds": (2, 2)}, "parse_cells": {"text": "0:0:0 0:1:0 1:1:1"}, "parse_row": {"text": "0 1 1"},
+}
+# Parameters that take any value, or of which only right values are passed.
+FREE = ("value", "numbers")
 # The parameters whose errors have a field, here always the index.
 INDEXED = ("cells", "row", "crossings", "other_crossings", "rhythm", "waiting", "frame")
 KINDS = [None, True, False, "", "1", [], [1], (), (1,), {}, {"a": 1}, errors.InvalidSize("one"), errors.InvalidRow(1)]
@@ -113,6 +119,17 @@ WRONG_FOR = {
     ("left_over", "rounds"): (errors.InvalidNumber, [*KINDS, -1, -(10 ** 40 - 1), 10 ** 30 + 1, 10 ** 200 - 1]),
     ("clash_pairs", "rounds"): (errors.InvalidNumber, [*KINDS, -1, -(10 ** 40 - 1), 10 ** 30 + 1, 10 ** 200 - 1]),
 }
+WRONG_FOR[("parse_cells", "text")] = (errors.InvalidText, [
+    *indexed(None, None, True, 0, 10 ** 200 - 1, [], ["0:0:0"], (), ("0:0:0",), {}, {"0:0:0": 1}, errors.InvalidRow(1)),
+    *indexed(0, " ", "0", "0:0", "0:0:0:0", "0:0:2", "0:2:0", "00:0:0", "+1:0:0", "-1:0:0", " 0:0:0", "a:0:0"),
+    *indexed(1, "0:0:0 ", "0:0:0  0:1:0", "0:0:0 0:0:0", "0:0:0 0:0:1", "1:0:0 0:1:0", "0:0:0 01:0:0", "0:0:0 1"),
+])
+WRONG_FOR[("parse_row", "text")] = (errors.InvalidText, [
+    *indexed(None, None, True, 0, 10 ** 200 - 1, [], ["0", "1", "1"], (), (0, 1, 1), {}, {"0 1 1": 1}),
+    *indexed(0, "", " ", " 0 1 1", "00 1 1", "+0 1 1", "-0 1 1", "x", "0:0:0", "1" * 32, "0\n1 1"),
+    *indexed(1, "0", "0 ", "0  1 1", "0 0 1", "0 01 1", "0 +1 1", "0 1.0 1"),
+    *indexed(2, "0 1", "0 1 ", "0 1 0", "0 1 01", "0 1 x", "0 1 " + "1" * 32), *indexed(3, "0 1 1 ", "0 1 1 1"),
+])
 for name in ("better", "worse"):
     more = [[], [0], [1], [2], [3], [0, 2, 3]]
     for pairing in ("picks", "other_picks"):
@@ -128,6 +145,10 @@ LISTED = {
     "run_plan": (errors.Impossible, {"rhythm": [0, 0]}),
     "served_index": (errors.NotBusy, {"row": [0, 2, 1]}),
     "unrolled": (errors.TooLarge, {"rounds": 31}),
+    "has_plan": (errors.TooLarge, {"row": [0, 8, 1]}),
+    "plan_count": (errors.TooLarge, {"row": [0, 8, 1]}),
+    "nth_plan": (errors.TooLarge, {"row": [0, 8, 1], "index": 10 ** 40 - 1}),
+    "least_pairs": (errors.TooLarge, {"row": [0, 8, 1]}),
     "steady_count": (errors.TooLarge, {"waiting": [(0, 0, age, age) for age in range(13)]}),
     "nth_steady": (errors.TooLarge, {"waiting": [(0, 0, age, age) for age in range(13)]}),
 }
@@ -135,10 +156,16 @@ LISTED = {
 
 def wrong_values(function, parameter):
     """Return the tuples (value, error, field) for a parameter of a function."""
-    error, values = WRONG_FOR.get((function.__name__, parameter), WRONG[parameter])
-    if parameter in INDEXED:
-        return [(value, error, ("index", index)) for value, index in values]
+    own = (function.__name__, parameter)
+    error, values = WRONG_FOR[own] if own in WRONG_FOR else WRONG[parameter]
+    if parameter in INDEXED or parameter == "text":
+        return [(value, error, ("word" if parameter == "text" else "index", index)) for value, index in values]
     return [(value, error, None) for value in values]
+
+
+def given_to(function, **others):
+    """Return the values that a function is given."""
+    return {**GIVEN, **GIVEN_TO.get(function.__name__, {}), **others}
 
 
 def calls():
@@ -155,29 +182,29 @@ class ErrorsOfParametersTest(TwinTest):
     def test_the_given_values_raise_none(self):
         for function, parameters in calls():
             with self.subTest(function.__name__):
-                function(*[GIVEN[parameter] for parameter in parameters])
+                function(*[given_to(function)[parameter] for parameter in parameters])
 
     def test_each_wrong_value(self):
         for function, parameters in calls():
             for parameter in parameters:
-                if parameter == "value":
+                if parameter in FREE:
                     continue
                 for value, error, field in wrong_values(function, parameter):
                     with self.subTest(function.__name__, parameter=parameter, value=value):
-                        named = {name: GIVEN[name] for name in parameters}
+                        named = {name: given_to(function)[name] for name in parameters}
                         named[parameter] = value
                         self.assert_raises(error, field, function, **named)
 
     def test_of_two_wrong_ones_the_first_is_told(self):
         for function, parameters in calls():
-            parameters = [parameter for parameter in parameters if parameter != "value"]
+            parameters = [parameter for parameter in parameters if parameter not in FREE]
             for at, parameter in enumerate(parameters):
                 for behind in parameters[at + 1:]:
                     with self.subTest(function.__name__, parameter=parameter, behind=behind):
                         self._assert_first_told(function, parameter, behind)
 
     def _assert_first_told(self, function, parameter, behind):
-        named = dict(GIVEN)
+        named = given_to(function)
         names = [name for function_, names in calls() if function_ is function for name in names]
         seconds = wrong_values(function, behind)
         for number, (value, error, field) in enumerate(wrong_values(function, parameter)):
@@ -189,9 +216,9 @@ class ErrorsOfParametersTest(TwinTest):
     def test_all_wrong(self):
         for function, parameters in calls():
             for first in range(len(parameters)):
-                if parameters[first] == "value":
+                if parameters[first] in FREE:
                     continue
-                named = {name: GIVEN[name] for name in parameters[:first]}
+                named = {name: given_to(function)[name] for name in parameters[:first]}
                 value, error, field = wrong_values(function, parameters[first])[0]
                 named.update({name: None for name in parameters[first:]})
                 named[parameters[first]] = value
@@ -203,7 +230,7 @@ class ErrorsOfParametersTest(TwinTest):
             if function.__name__ not in LISTED:
                 continue
             error, listed = LISTED[function.__name__]
-            named = {name: dict(GIVEN, **listed)[name] for name in parameters}
+            named = {name: given_to(function, **listed)[name] for name in parameters}
             self.assert_raises(error, None, function, **named)
             for parameter in parameters:
                 for value, told, field in wrong_values(function, parameter):
@@ -223,8 +250,8 @@ class RangesTest(TwinTest):
 
     def test_sizes_from_1_to_8(self):
         for function, parameters in calls():
-            named = dict(
-                GIVEN, cells=[], row=[], crossings=[], other_crossings=[], index=0, frame=(1, [(0, 0, 0)]),
+            named = given_to(
+                function, cells=[], row=[], crossings=[], other_crossings=[], index=0, frame=(1, [(0, 0, 0)]), text="",
             )
             for size in range(1, 9):
                 with self.subTest(function.__name__, size=size):
@@ -235,9 +262,10 @@ class RangesTest(TwinTest):
             for size in range(1, 9):
                 for port in range(size):
                     for slot in (0, 10 ** 30, 10 ** 31 - 1):
-                        named = dict(
-                            GIVEN, size=size, cells=[(0, port, port)], row=[0], crossings=[0], index=0, outlet=port,
+                        named = given_to(
+                            function, size=size, cells=[(0, port, port)], row=[0], crossings=[0], index=0, outlet=port,
                             slot=slot, last=0, other_crossings=[slot], frame=(1, [(0, port, port)]),
+                            text="0" if "cells" in parameters else f"0:{port}:{port}",
                         )
                         self.call(function, **{name: named[name] for name in parameters})
 
@@ -248,6 +276,10 @@ class RangesTest(TwinTest):
                     named = dict(GIVEN, size=size, cells=[], outlet=size, frame=(1, []))
                     wrong = {name: named[name] for name in parameters}
                     self.assert_raises(errors.InvalidPort, None, function, **wrong)
+
+
+# What some functions raise for the arguments of the next tests.
+RAISED = ("NotPressed", "InvalidNumber", "Impossible", "TooLarge")
 
 
 class ArgumentsStayTest(TwinTest):
@@ -262,8 +294,9 @@ class ArgumentsStayTest(TwinTest):
                 frame=(40, [cell for cell in cells[:30] if cell[0] < 40]),
             )
             for function, parameters in calls():
+                given = dict(named, text=" ".join(map(str, row)) if "cells" in parameters else "0:0:0")
                 with self.subTest(function.__name__, many=len(cells)):
-                    self._assert_stay(function, {name: copy.deepcopy(named[name]) for name in parameters})
+                    self._assert_stay(function, {name: copy.deepcopy(given[name]) for name in parameters})
 
     def test_more_arguments_of_some_functions(self):
         for function, parameters in calls():
@@ -273,6 +306,7 @@ class ArgumentsStayTest(TwinTest):
                 dict(GIVEN, row=[1, 0, 1], rhythm=[9], side="outputs", number=9, value=[0, 0, 1], slot=0),
                 dict(GIVEN, rule="urgent", waiting=[], picks=[], other_picks=[], frame=(3, []), rounds=9),
             ):
+                named = dict(GIVEN_TO.get(function.__name__, {}), **named)
                 with self.subTest(function.__name__, named=named):
                     self._assert_stay(function, {name: copy.deepcopy(named[name]) for name in parameters})
 
@@ -283,9 +317,9 @@ class ArgumentsStayTest(TwinTest):
             first = function(**named)
         except errors.TwinError as error:
             first = type(error).__name__
-            self.assertIn(first, ("NotPressed", "InvalidNumber", "Impossible"))
+            self.assertIn(first, RAISED)
         self.assertEqual(repr(named), repr(before))
-        if first in ("NotPressed", "InvalidNumber", "Impossible"):
+        if first in RAISED:
             return
         expected = copy.deepcopy(first)
         self._spoil(first)

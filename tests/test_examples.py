@@ -126,6 +126,54 @@ CLASHING_FRAMES = """
 [[0, 1, 3], (3, 0), 1]
 """
 
+SMALL = """
+>>> from idealtwin.small import has_plan, least_pairs, nth_plan, plan_count
+>>> [has_plan(2, three, [0, 1, 1], (1, 1)), [plan_count(2, three, [0, 1, 1], speeds) for speeds in ((1, 1), (2, 1), (1, 2), (2, 2))], least_pairs(2, three, [0, 1, 1])]
+[False, [0, 1, 1, 2], [(1, 2), (2, 1)]]
+>>> [nth_plan(2, three, [0, 1, 1], (2, 2), index) for index in (0, 1)]
+[[0, 0, 1], [0, 1, 1]]
+"""
+
+SWITCHES = """
+>>> from idealtwin.switches import CountingSwitch, OldestSwitch, Switch
+>>> switch = Switch(2, [1])
+>>> [switch.tick([(0, 0), (1, 0)]), switch.tick([(1, 1)]), switch.late, switch.waiting, switch.tick([]), switch.described()]
+[[0], [2], [1], [1], [1], ['slot 3', 'waiting 0', 'late 0']]
+>>> [switch.undo(), switch.late, switch.leaving(1), switch.crossing(1), switch.crossing(2), len(switch)]
+[None, [1], 1, None, 1, 3]
+>>> other = OldestSwitch(2, [1])
+>>> [other.tick([(0, 0), (1, 0)]), other.tick([(1, 1)]), other.late, other == other.twin(), other == switch]
+[[0], [1], [2], True, False]
+>>> counting = CountingSwitch(2, [2])
+>>> [counting.tick([(0, 0), (1, 0)]), counting.held, counting.tick([(1, 1)]), counting.idle, counting.described()[3]]
+[[0], [1], [1, 2], 1, 'idle 1']
+"""
+
+TEXTS = """
+>>> from idealtwin.texts import format_cells, format_numbers, parse_cells, parse_row
+>>> [format_cells(2, three), format_numbers([0, 1, 1]), format_numbers([]), parse_cells(2, "0:0:0 0:1:0") == three[:2], parse_row(2, three, "0 1 1")]
+['0:0:0 0:1:0 1:1:1', '0 1 1', '', True, [0, 1, 1]]
+>>> parse_cells(2, "0:0:0 0:0:1")
+raises InvalidText(word=1)
+"""
+
+SHORT_TEXTS = """
+>>> from idealtwin.texts import parse_row
+>>> parse_row(2, three, "0 1")
+raises InvalidText(word=2)
+"""
+
+CONSOLE = """
+>>> from idealtwin.console import Console
+>>> console = Console()
+>>> [console.execute(command) for command in ["size 2", "cells 0:0:0 0:1:0 1:1:1", "leaving", "clash", "run newest", "rhythm 1", "late newest", "unsure", "word 2", "count"]]
+['ok', 'ok', '0 1 1', '2', '0 0 1', 'ok', '1', '1', 'fails', '2']
+>>> [console.execute(command) for command in ["last", "leaving", "busy", "pressed", "served oldest", "enough 2 2", "row 0 2 1", "busy"]]
+['ok', '1 0 1', 'yes', 'no', '1', 'yes', 'ok', 'no']
+>>> console.execute("row 0 0 1")
+raises InvalidRow(index=1)
+"""
+
 # The document has no example under rows.py and turns.py that raises; these show that one would be checked.
 RAISING = """
 >>> from idealtwin.rows import busy_index, first_come
@@ -181,6 +229,21 @@ class ExamplesTest(TwinTest):
 
     def test_clashing_frames(self):
         self.run_examples(FRAMES + CLASHING_FRAMES, errors)
+
+    def test_small(self):
+        self.run_examples(SMALL, errors)
+
+    def test_switches(self):
+        self.run_examples(SWITCHES, errors)
+
+    def test_texts(self):
+        self.run_examples(TEXTS, errors)
+
+    def test_short_texts(self):
+        self.run_examples(SHORT_TEXTS, errors)
+
+    def test_console(self):
+        self.run_examples(CONSOLE, errors)
 
     def test_raising(self):
         self.run_examples(RAISING, errors)

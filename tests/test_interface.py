@@ -6,19 +6,22 @@ import inspect
 import pathlib
 
 from tests.helpers import CROSSED, FOUR, THREE, TwinTest
-from tests.interface import FUNCTIONS
+from tests.interface import CLASSES, FUNCTIONS
 
 PACKAGE = pathlib.Path(__file__).resolve().parent.parent / "idealtwin"
 GIVEN = {
     "size": 2, "cells": FOUR, "row": [1, 0, 2], "crossings": [0, 0, 1], "outlet": 0, "slot": 1, "last": 5, "index": 1,
     "speeds": (1, 2), "rhythm": [1, 1, 2], "side": "outputs", "number": 2, "longest": 3, "rule": "urgent",
     "other_crossings": [0, 1, 1], "waiting": CROSSED, "picks": [1, 3], "other_picks": [0, 2], "frame": (2, THREE),
-    "rounds": 3,
+    "rounds": 3, "numbers": [10 ** 30, 0],
 }
 # What the language of the package lets it import from elsewhere.
 LIBRARY = {"math": ["gcd"]}
 # Functions that raise an error with these values get others.
-OTHERS = {"plan_by_coming": {"cells": THREE, "row": [0, 1, 1]}}
+OTHERS = {
+    "plan_by_coming": {"cells": THREE, "row": [0, 1, 1]}, "nth_plan": {"speeds": (2, 2)},
+    "parse_cells": {"text": "0:0:0 2:1:1"}, "parse_row": {"text": "2 1 4"},
+}
 
 
 class InterfaceTest(TwinTest):
@@ -43,6 +46,31 @@ class InterfaceTest(TwinTest):
                     by_position = function(*named.values())
                     self.assert_same(function(**named), by_position)
                     self.assert_same(function(**dict(reversed(named.items()))), by_position)
+
+
+    def test_classes_stand_in_their_files(self):
+        for module, classes in CLASSES.items():
+            for name, (bases, parameters, methods, properties) in classes.items():
+                with self.subTest(name):
+                    found = getattr(importlib.import_module(module), name)
+                    self.assertTrue(inspect.isclass(found))
+                    self.assertEqual((found.__module__, found.__name__), (module, name))
+                    self.assertEqual([base.__name__ for base in found.__bases__], bases)
+                    own = dict(methods, __init__=parameters)
+                    for method, told in own.items():
+                        self.assertEqual(list(inspect.signature(vars(found)[method]).parameters), ["self", *told])
+                    for listed in properties:
+                        self.assertIsInstance(vars(found)[listed], property)
+
+    def test_nothing_else_is_public(self):
+        for module, classes in CLASSES.items():
+            for name in classes:
+                found = getattr(importlib.import_module(module), name)
+                listed = {"RULE"}
+                for base in found.__mro__[:-1]:
+                    _, _, methods, properties = classes[base.__name__]
+                    listed |= {*methods, *properties}
+                self.assertEqual([word for word in dir(found) if word[0] != "_" and word not in listed], [])
 
 
 class FormTest(TwinTest):
