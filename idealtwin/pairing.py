@@ -26,14 +26,14 @@ def best_pairing(waiting):
 def slot_pairings(cells, row, waiting, many, rule):
     """Return the pairings of a slot, one after another, each of those of the waiting cells that still wait.
 
-    Cells are told by their indices. Where no cell is left, a pairing is empty.
+    Cells are told by their ascending indices. Where no cell is left, a pairing is empty.
     """
     pairings = []
-    rest = list(waiting)
+    rest = waiting
     for _ in range(many):
         liked = [_liked_cell(cells[index], row[index], rule) for index in rest]
-        picked = {rest[at]: True for at in best_pairing(liked)}
-        pairings.append(sorted(picked))
+        picked = [rest[at] for at in best_pairing(liked)]
+        pairings.append(picked)
         rest = [index for index in rest if index not in picked]
     return pairings
 
@@ -63,5 +63,5 @@ def _refused(waiting, held, index):
 def _liked_cell(cell, leaving, rule):
     """Return a cell with what its input likes by a rule, as best_pairing takes it."""
     slot, entry, outlet = cell
-    likings = {"newest": (slot, 0), "oldest": (-slot, 0), "urgent": (-leaving, slot)}
+    likings = {"newest": slot, "oldest": -slot, "urgent": (-leaving, slot)}
     return entry, outlet, likings[rule], leaving

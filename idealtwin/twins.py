@@ -1,6 +1,6 @@
 """Runs: which cells cross in which slots if each slot has some steady pairings."""
 
-from idealtwin.checks import check_cells, check_crossings, check_rhythm, check_row, check_rule
+from idealtwin.checks import check_crossings, check_rhythm, check_row, check_rule
 from idealtwin.errors import Impossible
 from idealtwin.pairing import slot_pairings
 

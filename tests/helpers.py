@@ -7,6 +7,8 @@ import unittest
 from itertools import product
 
 from idealtwin import errors
+from idealtwin.console import Console
+from idealtwin.switches import Switch
 
 SECONDS = 120
 
@@ -19,6 +21,7 @@ ANY_VALUES = [
     [True], [False], [None], ["0"], [[]], [[[[[[]]]]]], [[0, 1, 1]], (), (0,), (0, 0), (0, 0, 0, 0), (None, None, None),
     (False, 0, 0), (0, False, 0), (0, 0, True), ("0", "0", "0"), ((), (), ()), ([0], [0], [0]), {}, {"a": 1},
     {"a": [0, {"b": (1,)}]}, [{}], ({},), [0] * 1000, errors.InvalidSize("one"), errors.InvalidRow(1),
+    Switch(1, [1]), Console(), [Switch(1, [1])],
 ]
 
 

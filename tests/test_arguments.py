@@ -4,6 +4,8 @@ import copy
 import importlib
 
 from idealtwin import errors
+from idealtwin.console import Console
+from idealtwin.switches import Switch
 from tests.helpers import CROSSED, THREE, TwinTest, crowd, far_cells
 from tests.interface import FUNCTIONS
 
@@ -21,8 +23,9 @@ GIVEN_TO = {
 FREE = ("value", "numbers")
 # The parameters whose errors have a field, here always the index.
 INDEXED = ("cells", "row", "crossings", "other_crossings", "rhythm", "waiting", "frame")
-KINDS = [None, True, False, "", "1", [], [1], (), (1,), {}, {"a": 1}, errors.InvalidSize("one"), errors.InvalidRow(1)]
-NO_LISTS = [None, True, False, 0, 1, -1, "", "011", (), (0, 1, 1), {}, {"a": 0}, errors.InvalidRow(1)]
+OBJECTS = [errors.InvalidSize("one"), errors.InvalidRow(1), Switch(1, [1]), Console()]
+KINDS = [None, True, False, "", "1", [], [1], (), (1,), {}, {"a": 1}, *OBJECTS]
+NO_LISTS = [None, True, False, 0, 1, -1, "", "011", (), (0, 1, 1), {}, {"a": 0}, *OBJECTS]
 MANY = [(slot, 0, 0) for slot in range(61)]
 
 

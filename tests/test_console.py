@@ -103,6 +103,9 @@ class CommandsTest(ConsoleTest):
         self.assert_same(self.told("first", "last", "cells 0:0:0", "leaving", "row 5", "leaving", "run newest"),
                          ["ok", "ok", "ok", "0", "ok", "5", "0"])
 
+    def test_the_rhythm_of_a_new_console(self):
+        self.assert_same(self.told("size 3", "cells 0:0:0 0:1:0 0:2:0", "run newest")[2], "0 0 1")
+
     def test_each_command(self):
         for cells, row, rhythm in [
             (THREE, [0, 1, 1], [2]), (THREE, [0, 2, 1], [1]), (THREE, [1, 0, 1], [0, 1]), (FOUR, [2, 0, 1], [1, 2, 3]),
